@@ -1,0 +1,1 @@
+"""Linkless: graphs on a line, in the plane, in space."""

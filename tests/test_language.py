@@ -1,0 +1,74 @@
+"""The rules of the language that a file shows by itself: size, signs, imports, names of functions and methods."""
+
+import ast
+import inspect
+import unittest
+from importlib import import_module
+from pathlib import Path
+
+FOLDER = Path(__file__).resolve().parent.parent / "linkless"
+FILES = sorted(FOLDER.rglob("*.py"))
+BUILTINS = set("""len range enumerate zip min max sum abs sorted reversed int str bool list tuple dict set isinstance ord
+    repr any all divmod type super ValueError""".split())
+METHODS = set("""append clear copy count endswith extend find get index insert isdigit items join keys pop remove replace
+    reverse setdefault sort split startswith strip update values bit_length add discard""".split())
+BARRED = (ast.AsyncFunctionDef, ast.ClassDef, ast.Global, ast.Nonlocal, ast.Try, ast.With, ast.Div, ast.Yield,
+          ast.YieldFrom, ast.Import)
+SIGNATURES = {
+    "graphs": {"is_graph": ["value"], "components": ["graph"], "cycles": ["graph"], "cycle_pairs": ["graph"],
+               "edge_pairs": ["graph"]},
+    "changes": {"without_edge": ["graph", "edge"], "without_vertex": ["graph", "vertex"],
+                "contracted": ["graph", "edge"], "cone": ["graph"], "claw_for": ["graph", "triangle"],
+                "triangle_for": ["graph", "vertex"]},
+    "texts": {"show_graph": ["graph"], "read_graph": ["text"]}}
+
+
+def nodes(file, *kinds):
+    return [node for node in ast.walk(ast.parse(file.read_text("ascii"))) if isinstance(node, kinds)]
+
+
+class LanguageTest(unittest.TestCase):
+    def test_size_and_signs(self):
+        for file in FILES:
+            rows = file.read_text("ascii").split("\n")
+            self.assertLess(len(rows), 400, file.name)
+            for row in rows:
+                self.assertLessEqual(len(row), 120, row)
+                self.assertTrue(all(" " <= sign <= "~" for sign in row), row)
+            for function in nodes(file, ast.FunctionDef):
+                self.assertLessEqual(function.end_lineno - function.lineno + 1, 40, function.name)
+                self.assertEqual(function.decorator_list, [])
+
+    def test_imports_are_of_the_package(self):
+        for file in FILES:
+            for node in nodes(file, ast.ImportFrom):
+                self.assertEqual((node.module.split(".")[0], node.level), ("linkless", 0), file.name)
+
+    def test_only_plain_statements(self):
+        for file in FILES:
+            barred = [kind for kind in BARRED if kind is not ast.ClassDef or file.name != "errors.py"]
+            self.assertEqual(nodes(file, *barred), [], file.name)
+            for node in nodes(file, ast.Constant):
+                self.assertNotIsInstance(node.value, (float, complex))
+
+    def test_only_known_functions_and_methods(self):
+        for file in FILES:
+            own = {node.name for node in nodes(file, ast.FunctionDef, ast.ClassDef)}
+            own |= {name.name for node in nodes(file, ast.ImportFrom) for name in node.names}
+            for call in nodes(file, ast.Call):
+                if isinstance(call.func, ast.Name):
+                    self.assertIn(call.func.id, own | BUILTINS, file.name)
+                elif call.func.attr != "__init__":
+                    self.assertIn(call.func.attr, METHODS, file.name)
+
+    def test_the_interface_stands_where_it_is_listed(self):
+        for name, functions in SIGNATURES.items():
+            module = import_module("linkless." + name)
+            for function, parameters in functions.items():
+                found = getattr(module, function)
+                self.assertEqual(found.__module__, "linkless." + name)
+                self.assertEqual(list(inspect.signature(found).parameters), parameters)
+
+
+if __name__ == "__main__":
+    unittest.main()
