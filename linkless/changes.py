@@ -1,8 +1,8 @@
 """Graphs that come of a graph by one change."""
 
 from linkless.errors import InvalidEdge, InvalidTriangle, InvalidVertex, TooMany
-from linkless.graphs import MOST_EDGES, MOST_VERTICES, check_graph, neighbours
-from linkless.values import is_whole, is_whole_row
+from linkless.graphs import MOST_EDGES, MOST_VERTICES, check_graph, is_edge, is_vertex, neighbours
+from linkless.values import is_whole_row
 
 
 def without_edge(graph, edge):
@@ -62,17 +62,12 @@ def triangle_for(graph, vertex):
 
 
 def _check_edge(graph, edge):
-    if not _is_edge(graph, edge):
+    if not is_edge(graph, edge):
         raise InvalidEdge(edge)
 
 
-def _is_edge(graph, value):
-    # True and 1 are equal: being equal to an edge is not enough.
-    return is_whole_row(value, 2) and value in graph[1]
-
-
 def _check_vertex(graph, vertex):
-    if not is_whole(vertex) or not 0 <= vertex < graph[0]:
+    if not is_vertex(graph, vertex):
         raise InvalidVertex(vertex)
 
 
@@ -83,7 +78,7 @@ def _check_triangle(graph, triangle):
 
 def _is_triangle(graph, value):
     # The ends of an edge ascend, so those of three such sides do.
-    return is_whole_row(value, 3) and all([_is_edge(graph, side) for side in _sides(value)])
+    return is_whole_row(value, 3) and all([is_edge(graph, side) for side in _sides(value)])
 
 
 def _sides(triangle):

@@ -1,7 +1,7 @@
 """Graphs: their components, cycles, and pairs of what is apart in them."""
 
 from linkless.errors import InvalidGraph
-from linkless.values import is_ascending, is_row, is_whole, is_whole_row
+from linkless.values import are_whole, is_ascending, is_row, is_whole, is_whole_row
 
 MOST_VERTICES = 10
 MOST_EDGES = 24
@@ -29,6 +29,50 @@ def check_graph(graph):
     """Raise InvalidGraph for what is no graph."""
     if not is_graph(graph):
         raise InvalidGraph(graph)
+
+
+def is_edge(graph, value):
+    """Whether the value is an edge of the graph."""
+    # True and 1 are equal: being equal to an edge is not enough.
+    return is_whole_row(value, 2) and value in graph[1]
+
+
+def is_vertex(graph, value):
+    """Whether the value is a vertex of the graph."""
+    return is_whole(value) and 0 <= value < graph[0]
+
+
+def is_edge_pair(graph, value):
+    """Whether the value is a pair of independent edges of the graph."""
+    if not is_row(value, 2) or not all([is_edge(graph, edge) for edge in value]):
+        return False
+    first, second = value
+    return first < second and _are_independent(first, second)
+
+
+def _are_independent(first, second):
+    return first[0] not in second and first[1] not in second
+
+
+def is_cycle_pair(graph, value):
+    """Whether the value is a pair of cycles of the graph."""
+    if not is_row(value, 2) or not all([_is_cycle(graph, row) for row in value]):
+        return False
+    first, second = value
+    return first < second and not _lot_number(first) & _lot_number(second)
+
+
+def _is_cycle(graph, value):
+    if not are_whole(value) or len(value) < LEAST_CYCLE or len(set(value)) < len(value):
+        return False
+    if value[0] != min(value) or value[1] > value[-1]:
+        return False
+    return all([edge in graph[1] for edge in cycle_edges(value)])
+
+
+def cycle_edges(row):
+    """The edges from each vertex of a cycle to the next one."""
+    return [(min(row[k - 1], row[k]), max(row[k - 1], row[k])) for k in range(len(row))]
 
 
 def neighbours(graph):
@@ -120,4 +164,4 @@ def edge_pairs(graph):
     check_graph(graph)
     edges = graph[1]
     return tuple([(first, second) for place, first in enumerate(edges) for second in edges[place + 1:]
-                  if first[0] not in second and first[1] not in second])
+                  if _are_independent(first, second)])

@@ -13,7 +13,12 @@ def is_row(value, length):
 
 def is_whole_row(value, length):
     """Whether the value is a tuple of this many whole numbers."""
-    return is_row(value, length) and all([is_whole(part) for part in value])
+    return is_row(value, length) and are_whole(value)
+
+
+def are_whole(value):
+    """Whether the value is a tuple of whole numbers, however many."""
+    return type(value) is tuple and all([is_whole(part) for part in value])
 
 
 def is_ascending(row):

@@ -5,8 +5,9 @@ from math import comb, factorial
 
 from linkless.errors import InvalidGraph
 from linkless.graphs import components, cycle_pairs, cycles, edge_pairs, is_graph
-from ways import (FULL, FULL_HALVES, FULL_ROUND, LARGE, NO_GRAPHS, PETERSEN, PRISM, SMALL, all_graphs, components_by_merging,
-                  cycles_by_even_lots, cycles_by_orders, halves_graph, pairs_by_even_lots, whole_graph)
+from ways import (FULL, FULL_HALVES, FULL_ROUND, LARGE, NO_GRAPHS, PETERSEN, PRISM, SMALL, all_graphs,
+                  components_by_merging, cycles_by_even_lots, cycles_by_orders, halves_graph, pairs_by_even_lots,
+                  whole_graph)
 
 ASKED = (components, cycles, cycle_pairs, edge_pairs)
 

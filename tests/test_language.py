@@ -8,10 +8,10 @@ from pathlib import Path
 
 FOLDER = Path(__file__).resolve().parent.parent / "linkless"
 FILES = sorted(FOLDER.rglob("*.py"))
-BUILTINS = set("""len range enumerate zip min max sum abs sorted reversed int str bool list tuple dict set isinstance ord
-    repr any all divmod type super ValueError""".split())
-METHODS = set("""append clear copy count endswith extend find get index insert isdigit items join keys pop remove replace
-    reverse setdefault sort split startswith strip update values bit_length add discard""".split())
+BUILTINS = set("""len range enumerate zip min max sum abs sorted reversed int str bool list tuple dict set isinstance
+    ord repr any all divmod type super ValueError""".split())
+METHODS = set("""append clear copy count endswith extend find get index insert isdigit items join keys pop remove
+    replace reverse setdefault sort split startswith strip update values bit_length add discard""".split())
 BARRED = (ast.AsyncFunctionDef, ast.ClassDef, ast.Global, ast.Nonlocal, ast.Try, ast.With, ast.Div, ast.Yield,
           ast.YieldFrom, ast.Import)
 SIGNATURES = {
@@ -20,7 +20,15 @@ SIGNATURES = {
     "changes": {"without_edge": ["graph", "edge"], "without_vertex": ["graph", "vertex"],
                 "contracted": ["graph", "edge"], "cone": ["graph"], "claw_for": ["graph", "triangle"],
                 "triangle_for": ["graph", "vertex"]},
-    "texts": {"show_graph": ["graph"], "read_graph": ["text"]}}
+    "texts": {"show_graph": ["graph"], "read_graph": ["text"]},
+    "minors": {"family": ["level"], "is_model": ["graph", "other", "value"], "minor": ["graph", "level"]},
+    "planes": {"paths_of": ["graph"], "is_laying": ["graph", "value"], "rotation_of": ["graph"],
+               "outer_rotation": ["graph"], "is_flat": ["graph", "value"], "is_outer": ["graph", "value"],
+               "walks_of": ["graph", "rotation"]},
+    "crossings": {"odd_crossings": ["graph", "moves"], "moves_of": ["graph"], "crossing_witness": ["graph"],
+                  "is_crossing_witness": ["graph", "value"]},
+    "links": {"odd_links": ["graph", "passes"], "passes_of": ["graph"], "linking_witness": ["graph"],
+              "is_linking_witness": ["graph", "value"]}}
 
 
 def nodes(file, *kinds):
