@@ -67,14 +67,10 @@ def _marks(graph):
     """What an edge of the first cycle brings to the equation, together with one of the second cycle."""
     found = {}
     for number, (low, high) in enumerate(edge_pairs(graph)):
-        found[(low, high)] = mark(number) + _over(low, high)
-        found[(high, low)] = mark(number) + _over(high, low)
+        found[(low, high)] = mark(number)
+        # Of two edges that cross, the one with the greater ends is over the other one.
+        found[(high, low)] = mark(number) + (1 if low[0] < high[0] < low[1] < high[1] else 0)
     return found
-
-
-def _over(edge, other):
-    """1 for an edge that crosses over the other one, else 0."""
-    return 1 if other[0] < edge[0] < other[1] < edge[1] else 0
 
 
 def _row(first, second, marks):

@@ -176,7 +176,8 @@ class JudgeTest(unittest.TestCase):
     def test_no_graphs(self):
         for at, value in enumerate(NO_GRAPHS):
             for asked, more in ((odd_crossings, ((),)), (odd_crossings, (None,)), (moves_of, ()),
-                                (crossing_witness, ()), (is_crossing_witness, ((),))):
+                                (crossing_witness, ()), (is_crossing_witness, ((),)),
+                                (is_crossing_witness, (None,))):
                 with self.subTest(asked=asked.__name__, at=at), self.assertRaises(InvalidGraph) as caught:
                     asked(value, *more)
                 self.assertIs(caught.exception.given, value)

@@ -212,7 +212,7 @@ class JudgeTest(unittest.TestCase):
     def test_no_graphs(self):
         for at, value in enumerate(NO_GRAPHS):
             for asked, more in ((odd_links, ((),)), (odd_links, (None,)), (passes_of, ()), (linking_witness, ()),
-                                (is_linking_witness, ((),))):
+                                (is_linking_witness, ((),)), (is_linking_witness, (None,))):
                 with self.subTest(asked=asked.__name__, at=at), self.assertRaises(InvalidGraph) as caught:
                     asked(value, *more)
                 self.assertIs(caught.exception.given, value)
