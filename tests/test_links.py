@@ -6,7 +6,7 @@ from linkless.errors import InvalidGraph, InvalidPasses
 from linkless.graphs import cycle_pairs
 from linkless.links import is_linking_witness, linking_witness, odd_links, passes_of
 from linkless.minors import family
-from ways import (ANYTHING, FULL, FULL_HALVES, FULL_ROUND, LARGE, NO_GRAPHS, PETERSEN, PRISM, SMALL, STRANGE, apart,
+from ways import (ANYTHING, FULL, FULL_HALVES, LARGE, NO_GRAPHS, PETERSEN, PRISM, SMALL, STRANGE, apart,
                   capped, classes, grown, halves_graph, is_linking_witness_by_count, is_over, level_by_orders,
                   links_by_count, pairs_by_even_lots, shuffled, sided, sides_of, some_of, whole_graph)
 

@@ -3,7 +3,6 @@
 from fractions import Fraction
 from functools import lru_cache
 from itertools import chain, combinations, permutations, product
-from random import Random
 
 
 def whole_graph(vertices):
