@@ -31,9 +31,14 @@ def family(level):
     return tuple([read_graph(text) for text in FAMILIES[level - 1]])
 
 
+def is_level(value):
+    """Whether the value is the number of a level."""
+    return is_whole(value) and 1 <= value <= len(FAMILIES)
+
+
 def check_level(level):
     """Raise InvalidNumber for what is no level."""
-    if not is_whole(level) or not 1 <= level <= len(FAMILIES):
+    if not is_level(level):
         raise InvalidNumber(level)
 
 
@@ -79,13 +84,18 @@ def minor(graph, level):
 
 def has_level(graph, level):
     """Whether the graph is of this level, by its having what the level asks for."""
+    return laying_of(graph, level) is not None
+
+
+def laying_of(graph, level):
+    """What the level asks for: paths, an outer or a flat rotation, or passes; None."""
     if level == 1:
-        return paths_of(graph) is not None
+        return paths_of(graph)
     if level == 2:
-        return outer_rotation(graph) is not None
+        return outer_rotation(graph)
     if level == 3:
-        return rotation_of(graph) is not None
-    return passes_of(graph) is not None
+        return rotation_of(graph)
+    return passes_of(graph)
 
 
 def _thinned(graph, level):

@@ -2,21 +2,21 @@
 
 from linkless.errors import InvalidText
 from linkless.graphs import MOST_EDGES, MOST_VERTICES, check_graph
+from linkless.words import ends_told, joined_up, number_told, words_of
 
 
 def show_graph(graph):
     """The text of a graph, as it is shown."""
     check_graph(graph)
     vertices, edges = graph
-    return " ".join([f"{vertices}:"] + [f"{low}-{high}" for low, high in edges])
+    return " ".join([f"{vertices}:"] + [joined_up(edge) for edge in edges])
 
 
 def read_graph(text):
     """The graph of a text."""
     if type(text) is not str:
         raise InvalidText(None)
-    # No other white space than the blank parts words.
-    words = [word for word in text.split(" ") if word]
+    words = words_of(text)
     vertices = _vertices_told(words)
     if vertices is None:
         raise InvalidText(0)
@@ -32,19 +32,9 @@ def read_graph(text):
 def _vertices_told(words):
     if not words or not words[0].endswith(":"):
         return None
-    return _number_told(words[0][:-1], 1, MOST_VERTICES)
+    return number_told(words[0][:-1], 1, MOST_VERTICES)
 
 
 def _edge_told(word, vertices):
-    ends = [_number_told(part, 0, vertices - 1) for part in word.split("-")]
-    if len(ends) != 2 or None in ends or ends[0] == ends[1]:
-        return None
-    return (min(ends), max(ends))
-
-
-def _number_told(word, least, greatest):
-    # Compared with what is shown: noughts ahead, signs and foreign figures never pass.
-    for number in range(least, greatest + 1):
-        if str(number) == word:
-            return number
-    return None
+    ends = ends_told(word, vertices - 1)
+    return None if ends is None else tuple(sorted(ends))

@@ -1,6 +1,8 @@
 """The sessions of the interface, as they stand there; names stay told from one to the next one."""
 
+import re
 import unittest
+from pathlib import Path
 
 GRAPHS = """
 >>> from linkless.graphs import components, cycle_pairs, cycles, edge_pairs, is_graph
@@ -86,7 +88,48 @@ LINKS = """
 [3, True]
 """
 
-SESSIONS = GRAPHS + CHANGES + TEXTS + MINORS + PLANES + CROSSINGS + LINKS
+LEVELS = """
+>>> from linkless.levels import apexes, is_critical, is_of_level, least_level, most_edges
+>>> [least_level((4, ((0, 1), (1, 2)))), least_level(prism), least_level(family(3)[1]), least_level(k6), \
+least_level(cone(prism))]
+[1, 3, 4, 5, 4]
+>>> [[most_edges(level, 6) for level in (1, 2, 3, 4)], most_edges(4, 3), apexes(family(3)[0]), apexes(k6), apexes(prism)]
+[[5, 9, 12, 14], 3, (0, 1, 2, 3, 4), (), (0, 1, 2, 3, 4, 5)]
+>>> [all([is_critical(other, level) for level in (1, 2, 3, 4) for other in family(level)]), is_critical(k6, 3), \
+is_of_level(without_edge(k6, (2, 4)), 4)]
+[True, False, True]
+"""
+
+CLAIMS = """
+>>> from linkless.certificates import certify_crossing, certify_level, certify_linking
+>>> from linkless.checker import accepts
+>>> [accepts(("of level", prism, 3), flat), accepts(("of level", prism, 4), ()), \
+accepts(("above level", prism, 2), (0, ((0,), (1,), (2,), (3, 4, 5)))), \
+accepts(("above level", prism, 3), (0, ((0,), (1,), (2,), (3, 4, 5))))]
+[True, True, True, False]
+>>> [certify_linking(k6)[0][0], certify_linking(prism)[0], certify_crossing(k6)[0][0], certify_level(k6, 4)[0][0], \
+certify_level(prism, 3)[0][0]]
+['linked', ('unlinked', (6, ((0, 1), (0, 2), (0, 3), (1, 2), (1, 4), (2, 5), (3, 4), (3, 5), (4, 5)))), 'crossed', \
+'above level', 'of level']
+>>> [accepts(("linked", k6), cycle_pairs(k6)), accepts(("unlinked", k6), ()), \
+accepts(("apex", prism, 0), ((1, 3), (0, 4), (3, 4), (0, 2, 4), (1, 3, 2))), accepts(("critical", k6, 4), ())]
+[True, False, True, True]
+"""
+
+CONSOLE = """
+>>> from linkless.console import fresh_console, said, told_all
+>>> told_all(fresh_console(), ("show", "graph 4: 0-1 1-2 2-3", "level", "components", "cone", "level", "cycles", "pairs", \
+"most 4 6", "graph 3: 0-3", "claw 0 1 2", "back", "level"))[1]
+('nothing yet', '4 vertices, 3 edges', '1', '0-1-2-3', '5 vertices, 7 edges', '2', '6', '0', '14', 'not read at 1', \
+'not there', 'back', '1')
+>>> told_all(fresh_console(), ("family 4 0", "level", "pairs", "odd", "odd 2-3 0-1", "passes", "critical 4", \
+"delete 0-1", "level", "drop 9", "apexes", "back", "back", "back"))[1][:5]
+('6 vertices, 15 edges', '5', '10', '1', '3')
+>>> said(fresh_console(), 5)
+raises InvalidLines(index=None)
+"""
+
+SESSIONS = GRAPHS + CHANGES + TEXTS + MINORS + PLANES + CROSSINGS + LINKS + LEVELS + CLAIMS + CONSOLE
 
 
 def told_by(row, names):
@@ -104,13 +147,21 @@ def told_by(row, names):
 
 
 class ExamplesTest(unittest.TestCase):
-    def test_sessions(self):
+    def check(self, sessions, many):
+        """Each of this many steps tells what stands behind it."""
         names = {}
-        steps = [step.split("\n") for step in SESSIONS.strip().removeprefix(">>> ").split("\n>>> ")]
-        self.assertEqual(len(steps), 36)
+        steps = [step.split("\n") for step in sessions.strip().removeprefix(">>> ").split("\n>>> ")]
+        self.assertEqual(len(steps), many)
         for row, *expected in steps:
             with self.subTest(row):
                 self.assertEqual(told_by(row, names), "\n".join(expected).strip())
+
+    def test_sessions(self):
+        self.check(SESSIONS, 49)
+
+    def test_sessions_of_the_readme(self):
+        text = (Path(__file__).resolve().parent.parent / "README.md").read_text("ascii")
+        self.check("".join(re.findall("```\n(.*?)```", text, re.DOTALL)), 23)
 
 
 if __name__ == "__main__":

@@ -426,3 +426,87 @@ def is_linking_witness_by_count(graph, pairs):
 def some_of(parts, chance):
     """Some of the parts, ascending."""
     return tuple(sorted(chance.sample(parts, chance.randrange(len(parts) + 1))))
+
+
+def can_all_hold(rows):
+    """Whether equations modulo 2 can hold together: lots of unknowns, None among them where the right side is 1."""
+    left = [set(row) for row in rows]
+    while left:
+        row = left.pop()
+        unknowns = row - {None}
+        if unknowns:
+            lead = min(unknowns)
+            left = [other ^ row if lead in other else other for other in left]
+        elif row:
+            return False
+    return True
+
+
+def crossing_rows(graph):
+    """For each pair of independent edges the equation that it crosses an even number of times."""
+    return [{(edge, vertex) for edge, other in (pair, pair[::-1]) for vertex in other}
+            | ({None} if lie_across(*pair) else set()) for pair in apart(graph)]
+
+
+def linking_rows(pairs):
+    """For each pair of cycles the equation that it is linked an even number of times."""
+    rows = []
+    for first, second in pairs:
+        met = list(product(sides_of(first), sides_of(second)))
+        odd = sum(is_over(edge, other) for edge, other in met) % 2
+        rows.append({tuple(sorted(both)) for both in met} | ({None} if odd else set()))
+    return rows
+
+
+@lru_cache(maxsize=None)
+def level_by_rows(graph):
+    """The least level: by degrees and rings, moves of the cone, moves, passes."""
+    if are_paths(graph):
+        return 1
+    if can_all_hold(crossing_rows(capped(graph))):
+        return 2
+    if can_all_hold(crossing_rows(graph)):
+        return 3
+    return 4 if can_all_hold(linking_rows(pairs_by_cycles(graph))) else 5
+
+
+def pairs_by_cycles(graph):
+    """All pairs of cycles, of ways that go from their least vertex back to it."""
+    joined = {vertex: [sum(edge) - vertex for edge in graph[1] if vertex in edge] for vertex in range(graph[0])}
+    lots = {}
+    for start in range(graph[0]):
+        waiting = [[start]]
+        while waiting:
+            way = waiting.pop()
+            waiting += [way + [other] for other in joined[way[-1]] if other > start and other not in way]
+            if len(way) > 2 and way[1] < way[-1] and start in joined[way[-1]]:
+                lots.setdefault(frozenset(way), []).append(tuple(way))
+    return sorted(tuple(sorted((one, other))) for lot, more in combinations(lots, 2) if not lot & more
+                  for one in lots[lot] for other in lots[more])
+
+
+def some_graph(vertices, edges, chance):
+    """A graph with this many of each, or all edges if there are fewer."""
+    pairs = list(combinations(range(vertices), 2))
+    return (vertices, tuple(sorted(chance.sample(pairs, min(edges, len(pairs))))))
+
+
+def one_more(graph):
+    """All graphs with an edge more."""
+    vertices, edges = graph
+    return [(vertices, tuple(sorted(edges + (pair,)))) for pair in combinations(range(vertices), 2) if pair not in edges]
+
+
+def one_less(graph):
+    """All graphs with an edge less."""
+    return [(graph[0], graph[1][:k] + graph[1][k + 1:]) for k in range(len(graph[1]))]
+
+
+def path_of(vertices):
+    return (vertices, tuple((k, k + 1) for k in range(vertices - 1)))
+
+
+def dropped(graph, gone):
+    """The graph without a vertex, the others named from 0 on."""
+    kept = [edge for edge in graph[1] if gone not in edge]
+    return (graph[0] - 1, tuple(tuple(end - (end > gone) for end in edge) for edge in kept))
